@@ -44,7 +44,7 @@ def _told(lines):
             raise BadText(hand)
         rows.append(_row(pairs, hand))
         orders.append(tuple(other for other, _ in pairs))
-    early = tuple(hand for hand, line in enumerate(lines) if line.startswith(EARLY))
+    early = tuple(hand for hand in range(len(lines)) if lines[hand].startswith(EARLY))
     return (tuple(rows), tuple(orders), early)
 
 

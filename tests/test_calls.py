@@ -4,7 +4,10 @@ import importlib
 import inspect
 import unittest
 
+from bowstands.standings import start
 from tests.support import MIXED, TWO, Case
+
+RESTING = start(MIXED)
 
 # Module, function, the names of its arguments, some arguments.
 CALLS = (
@@ -15,6 +18,21 @@ CALLS = (
     ("kinds", "known", ("word", "many"), ("ranked", 3)),
     ("mannertexts", "manners_text", ("manners",), (MIXED,)),
     ("mannertexts", "read_manners", ("value",), ("1 even\n0 even",)),
+    ("standings", "start", ("manners",), (MIXED,)),
+    ("standings", "standing_error", ("manners", "value"), (MIXED, RESTING)),
+    ("standings", "flag", ("manners", "standing", "hand"), (MIXED, RESTING, 1)),
+    ("standings", "holder", ("standing", "one", "other"), (RESTING, 2, 1)),
+    ("steps", "next_step", ("manners", "standing", "hand"), (MIXED, RESTING, 1)),
+    ("steps", "stepped", ("manners", "standing", "hand"), (MIXED, RESTING, 1)),
+    ("steps", "movers", ("manners", "standing"), (MIXED, RESTING)),
+    ("standingtexts", "standing_text", ("manners", "standing"), (MIXED, RESTING)),
+    ("standingtexts", "read_standing", ("manners", "value"), (MIXED, "in, rest, wish; 0 1")),
+    ("runs", "behind", ("manners", "standing", "run"), (MIXED, RESTING, (0, 1))),
+    ("runs", "words", ("manners", "standing", "run"), (MIXED, RESTING, (0, 1))),
+    ("runs", "entries", ("manners", "standing", "run"), (MIXED, RESTING, (0, 0, 0, 0, 0))),
+    ("runs", "first_meeting", ("manners", "standing", "run"), (MIXED, RESTING, (0, 1))),
+    ("runtexts", "run_text", ("run",), ((0, 1),)),
+    ("runtexts", "read_run", ("value",), ("01",)),
 )
 
 
