@@ -8,6 +8,10 @@ SPOTLESS = ("rest", "wish", "in")
 
 REST = ("rest", 0)
 
+WISH = ("wish", 0)
+
+IN = ("in", 0)
+
 
 def start(manners):
     """Return the standing in which all rest, each token with the lesser one of its two."""

@@ -9,6 +9,10 @@ from tests.support import MIXED, TWO, Case
 
 RESTING = start(MIXED)
 
+BLIND = ((("-", "pass"), ("stand", "-")), ((1,), (0,)), ())
+LATE = (MIXED[0], ((2, 1), (0, 2), (1, 0)), ())
+ABOUT = (0, 1, 2)
+
 # Module, function, the names of its arguments, some arguments.
 CALLS = (
     ("manners", "manners_error", ("value",), (MIXED,)),
@@ -33,6 +37,20 @@ CALLS = (
     ("runs", "first_meeting", ("manners", "standing", "run"), (MIXED, RESTING, (0, 1))),
     ("runtexts", "run_text", ("run",), ((0, 1),)),
     ("runtexts", "read_run", ("value",), ("01",)),
+    ("aparts", "fault", ("manners", "one", "other"), (BLIND, 1, 0)),
+    ("aparts", "faults", ("manners",), (BLIND,)),
+    ("aparts", "is_safe", ("manners",), (MIXED,)),
+    ("meetings", "meeting_run", ("manners", "one", "other"), (BLIND, 1, 0)),
+    ("rings", "bow_ring", ("manners",), (MIXED,)),
+    ("rings", "wait_rings", ("manners",), (MIXED,)),
+    ("times", "events", ("manners", "ring"), (LATE, ABOUT)),
+    ("times", "order_of", ("manners", "ring"), (LATE, ABOUT)),
+    ("times", "is_timely", ("manners", "ring"), (LATE, ABOUT)),
+    ("times", "order_error", ("manners", "ring", "value"), (LATE, ABOUT, (("raise", 2), ("hand", 2, 1)))),
+    ("stalls", "stuck_ring", ("manners",), (LATE,)),
+    ("stalls", "is_never_stuck", ("manners",), (LATE,)),
+    ("stalls", "stall", ("manners",), (LATE,)),
+    ("stalls", "stall_error", ("manners", "value"), (LATE, ((0,), ()))),
 )
 
 
