@@ -1,6 +1,6 @@
 """Manners that are known by a word."""
 
-from bowstands.manners import others_of
+from bowstands.manners import rising_orders
 
 # Of each kind: how a hand treats those behind it, and how those ahead of it.
 KINDS = {
@@ -14,8 +14,7 @@ KINDS = {
 def known(word, many):
     """Return the manners of this kind of so many hands, all orders ascending, nobody early."""
     table = tuple(_row(word, hand, many) for hand in range(many))
-    orders = tuple(tuple(others_of(hand, many)) for hand in range(many))
-    return (table, orders, ())
+    return (table, rising_orders(many), ())
 
 
 def _row(word, hand, many):

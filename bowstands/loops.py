@@ -20,13 +20,19 @@ def is_loop(value, many):
     return all([is_run(run, many) for run in value])
 
 
-def first_idle(manners, standings, run):
-    """Return the first hand that makes no step in run, and neither rests nor is barred at any time, None if none is so.
+def return_error(manners, here, again, told):
+    """Return what is wrong with the way back of the round again from here, None if nothing is.
 
-    standings are the one at the beginning of run and those behind its steps.
+    told are the pairs (step, standing behind it) of the round.
     """
-    for hand, place in enumerate(standings[0][0]):
-        if hand not in run and place != REST:
-            if all([next_step(manners, standing, hand) is not None for standing in standings]):
-                return hand
+    standings = [here] + [standing for _, standing in told]
+    if standings[-1] != here:
+        return "back"
+    for hand, place in enumerate(here[0]):
+        if place != REST and hand not in again and not _is_ever_barred(manners, standings, hand):
+            return ("hand", hand)
     return None
+
+
+def _is_ever_barred(manners, standings, hand):
+    return any([next_step(manners, standing, hand) is None for standing in standings])

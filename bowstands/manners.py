@@ -70,6 +70,11 @@ def others_of(hand, many):
     return [other for other in range(many) if other != hand]
 
 
+def rising_orders(many):
+    """Return the orders by which each of so many hands looks at the others, ascending."""
+    return tuple(tuple(others_of(hand, many)) for hand in range(many))
+
+
 def evens(manners, hand):
     """Return the hands with which hand is even, in its order."""
     table, orders, _ = manners

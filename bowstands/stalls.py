@@ -2,7 +2,7 @@
 
 from bowstands.aparts import is_safe
 from bowstands.errors import BadRun, Unfit
-from bowstands.loops import first_idle, is_loop
+from bowstands.loops import is_loop, return_error
 from bowstands.manners import evens
 from bowstands.rings import bow_ring, wait_rings
 from bowstands.runs import behind, trace
@@ -132,8 +132,4 @@ def round_error(manners, here, again):
     for place, (step, _) in enumerate(told):
         if step in ("begin", "enter", "leave"):
             return ("word", place)
-    standings = [here] + [now for _, now in told]
-    if standings[-1] != here:
-        return "back"
-    idle = first_idle(manners, standings, again)
-    return None if idle is None else ("hand", idle)
+    return return_error(manners, here, again, told)

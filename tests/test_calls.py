@@ -4,6 +4,7 @@ import importlib
 import inspect
 import unittest
 
+from bowstands.kinds import known
 from bowstands.standings import start
 from tests.support import MIXED, TWO, Case
 
@@ -12,6 +13,8 @@ RESTING = start(MIXED)
 BLIND = ((("-", "pass"), ("stand", "-")), ((1,), (0,)), ())
 LATE = (MIXED[0], ((2, 1), (0, 2), (1, 0)), ())
 ABOUT = (0, 1, 2)
+BEGUN = ((("wish", 0), ("hand", 0), ("look", 1)), RESTING[1])
+EVEN = known("level", 4)[0]
 
 # Module, function, the names of its arguments, some arguments.
 CALLS = (
@@ -51,6 +54,19 @@ CALLS = (
     ("stalls", "is_never_stuck", ("manners",), (LATE,)),
     ("stalls", "stall", ("manners",), (LATE,)),
     ("stalls", "stall_error", ("manners", "value"), (LATE, ((0,), ()))),
+    ("homes", "tries_most", ("manners", "hand"), (MIXED, 1)),
+    ("homes", "home_bound", ("manners",), (MIXED,)),
+    ("homes", "home_run", ("manners", "standing", "picks"), (MIXED, BEGUN, (1, 0))),
+    ("orderings", "hurdle", ("table",), (MIXED[0],)),
+    ("orderings", "told_orders", ("table",), (MIXED[0],)),
+    ("orderings", "free_orders", ("table",), (MIXED[0],)),
+    ("changes", "fewest_changes", ("table",), (EVEN,)),
+    ("changes", "changed", ("table",), (EVEN,)),
+    ("keepouts", "can_be_kept_out", ("manners", "hand"), (MIXED, 1)),
+    ("keepouts", "keeping", ("manners", "hand"), (MIXED, 1)),
+    ("keepouts", "keeping_error", ("manners", "hand", "value"), (MIXED, 1, ((0,), ()))),
+    ("keepouts", "most_passed", ("manners", "hand"), (MIXED, 2)),
+    ("passings", "passed", ("manners", "run", "hand"), (MIXED, (0, 0, 0, 0, 0, 0), 0)),
 )
 
 
