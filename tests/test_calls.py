@@ -5,6 +5,7 @@ import inspect
 import unittest
 
 from bowstands.kinds import known
+from bowstands.roomlogs import room_behind
 from bowstands.standings import start
 from tests.support import MIXED, TWO, Case
 
@@ -67,6 +68,25 @@ CALLS = (
     ("keepouts", "keeping_error", ("manners", "hand", "value"), (MIXED, 1, ((0,), ()))),
     ("keepouts", "most_passed", ("manners", "hand"), (MIXED, 2)),
     ("passings", "passed", ("manners", "run", "hand"), (MIXED, (0, 0, 0, 0, 0, 0), 0)),
+    ("alls", "standings_of", ("manners",), (BLIND,)),
+    ("alls", "nearest", ("manners", "standing"), (MIXED, BEGUN)),
+    ("looks", "meets_by_all", ("manners", "one", "other"), (BLIND, 1, 0)),
+    ("looks", "stuck_by_all", ("manners",), (LATE,)),
+    ("looks", "kept_by_all", ("manners", "hand"), (MIXED, 1)),
+    ("looks", "longest_by_all", ("manners", "standing"), (MIXED, BEGUN)),
+    ("looks", "passed_by_all", ("manners", "hand"), (MIXED, 2)),
+    ("roomlogs", "log_text", ("log",), ((("go", 1), ("rule", TWO)),)),
+    ("roomlogs", "read_log", ("value",), ("go 1\nrule 1 bow; 0 bow\n",)),
+)
+
+# Module, class, the names of its arguments, some arguments; its methods likewise.
+CLASSES = (
+    ("rooms", "Room", ("manners",), (MIXED,), (
+        ("inside", (), ()), ("entered", (), ()), ("waits", (), ()), ("go", ("hand",), (1,)),
+        ("rule", ("manners",), (LATE,)), ("undo", (), ()), ("twin", (), ()), ("__eq__", ("other",), (None,)),
+        ("__ne__", ("other",), (None,)),
+    )),
+    ("shells", "Shell", (), (), (("say", ("line",), ("open",)),)),
 )
 
 
@@ -90,6 +110,28 @@ class Calls(Case):
                 call(*told[:-1])
             with self.assertRaises(TypeError):
                 call(*told, TWO)
+
+    def test_room_behind(self):
+        """What it returns is told by ==, not by repr."""
+        edits = (("go", 1), ("go", 1))
+        self.assertTrue(room_behind(value=edits, manners=TWO) == room_behind(TWO, edits))
+        self.assertEqual(tuple(inspect.signature(room_behind).parameters), ("manners", "value"))
+        self.assertEqual(room_behind.__module__, "bowstands.roomlogs")
+
+    def test_classes(self):
+        for file, name, names, told, methods in CLASSES:
+            made = getattr(importlib.import_module(f"bowstands.{file}"), name)
+            self.assertEqual(made.__module__, f"bowstands.{file}")
+            self.assertEqual(tuple(inspect.signature(made).parameters), names)
+            for method, its_names, its_told in methods:
+                self.assertTrue(inspect.isfunction(made.__dict__[method]), (name, method))
+                call = getattr(made(**dict(zip(names, told))), method)
+                self.assertEqual(tuple(inspect.signature(call).parameters), its_names)
+                if method == "undo":
+                    continue
+                due = getattr(made(*told), method)(*its_told)
+                got = call(**dict(zip(its_names, its_told)))
+                self.assertTrue(got == due, (name, method))
 
 
 if __name__ == "__main__":

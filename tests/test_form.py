@@ -55,6 +55,16 @@ def imports(tree):
     return [(node.module, alias.name) for node in nodes for alias in node.names]
 
 
+def from_tables(tree):
+    """The names that are assigned an item of a table of the module level, such as a function."""
+    found = set()
+    for node in ast.walk(tree):
+        if isinstance(node, ast.Assign) and isinstance(node.value, ast.Subscript):
+            if isinstance(node.value.value, ast.Name) and node.value.value.id in bound(tree):
+                found |= {target.id for target in node.targets if isinstance(target, ast.Name)}
+    return found
+
+
 class Form(unittest.TestCase):
     def test_files(self):
         for path in FOLDER.iterdir():
@@ -116,6 +126,7 @@ class Form(unittest.TestCase):
         for path, tree in trees():
             # A function may be handed to another one.
             handed = {node.arg for node in ast.walk(tree) if isinstance(node, ast.arg)}
+            handed |= from_tables(tree)
             for node in [node for node in ast.walk(tree) if isinstance(node, ast.Call)]:
                 about = (path, node.lineno)
                 if isinstance(node.func, ast.Name):
@@ -143,7 +154,7 @@ class Form(unittest.TestCase):
                     given = [node.arg]
                 for name in given:
                     self.assertNotIn(name, taken, (path, node.lineno))
-                for name in given + [getattr(node, "name", "")]:
+                for name in given + [getattr(node, "name", None) or ""]:
                     self.assertNotIn(name, BARRED_NAMES, path)
                     # The methods with two underscores are none of the builtins; doctest makes a builtin of "_".
                     is_own = name[:2] == "__" or name in ("", "_")
