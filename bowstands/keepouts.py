@@ -2,7 +2,7 @@
 
 from bowstands.aparts import is_safe
 from bowstands.errors import BadRun, Unfit
-from bowstands.loops import is_loop, return_error
+from bowstands.loops import ever_barred, is_loop, return_error
 from bowstands.manners import evens
 from bowstands.runs import behind, trace
 from bowstands.stalls import is_never_stuck
@@ -52,7 +52,8 @@ def _round_error(manners, hand, here, again):
     for place, (step, _) in enumerate(told):
         if again[place] == hand and step in ("enter", "leave"):
             return ("word", place)
-    return return_error(manners, here, again, told)
+    standings = [here] + [now for _, now in told]
+    return return_error(standings, again, ever_barred(manners, standings))
 
 
 def most_passed(manners, hand):

@@ -15,24 +15,31 @@ def is_run(value, many):
 
 def is_loop(value, many):
     """Return whether value is a pair of runs of some of so many hands."""
-    if not isinstance(value, tuple) or len(value) != 2:
-        return False
-    return all([is_run(run, many) for run in value])
+    return is_pair(value) and all([is_run(run, many) for run in value])
 
 
-def return_error(manners, here, again, told):
-    """Return what is wrong with the way back of the round again from here, None if nothing is.
+def is_pair(value):
+    """Return whether value is a tuple of two items."""
+    return isinstance(value, tuple) and len(value) == 2
 
-    told are the pairs (step, standing behind it) of the round.
+
+def ever_barred(manners, standings):
+    """Return the list of the hands that are barred in some of the standings."""
+    hands = range(len(manners[0]))
+    return [hand for hand in hands if any([next_step(manners, now, hand) is None for now in standings])]
+
+
+def return_error(standings, busy, barred):
+    """Return what is wrong with the way back by a round, None if nothing is.
+
+    standings are those of the round, in order; busy are the hands that make its steps, barred those that
+    have to wait in some standing of it.
     """
-    standings = [here] + [standing for _, standing in told]
+    here = standings[0]
     if standings[-1] != here:
         return "back"
     for hand, place in enumerate(here[0]):
-        if place != REST and hand not in again and not _is_ever_barred(manners, standings, hand):
+        # Who makes no step stays where it is: so who rests here rests in all of the round.
+        if place != REST and hand not in busy and hand not in barred:
             return ("hand", hand)
     return None
-
-
-def _is_ever_barred(manners, standings, hand):
-    return any([next_step(manners, standing, hand) is None for standing in standings])

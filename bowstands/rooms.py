@@ -4,7 +4,7 @@ from bowstands.bounds import MAX_EDITS
 from bowstands.errors import BadManners, NothingToUndo, Refused, TooMany
 from bowstands.manners import manners_error
 from bowstands.standings import REST, inside, start
-from bowstands.steps import after, next_step
+from bowstands.steps import after, looked_at, next_step
 from bowstands.values import is_hand
 
 
@@ -35,9 +35,9 @@ class Room:
     def waits(self):
         """Return the ascending pairs of a hand that is barred and the one for which it waits."""
         pairs = []
-        for hand, (_, spot) in enumerate(self.standing[0]):
+        for hand in range(len(self.manners[0])):
             if next_step(self.manners, self.standing, hand) is None:
-                pairs.append((hand, self.manners[1][hand][spot]))
+                pairs.append((hand, looked_at(self.manners, self.standing, hand)))
         return tuple(pairs)
 
     def go(self, hand):

@@ -2,7 +2,7 @@
 
 from bowstands.aparts import is_safe
 from bowstands.errors import BadRun, Unfit
-from bowstands.loops import is_loop, return_error
+from bowstands.loops import ever_barred, is_loop, return_error
 from bowstands.manners import evens
 from bowstands.rings import bow_ring, wait_rings
 from bowstands.runs import behind, trace
@@ -132,4 +132,5 @@ def round_error(manners, here, again):
     for place, (step, _) in enumerate(told):
         if step in ("begin", "enter", "leave"):
             return ("word", place)
-    return return_error(manners, here, again, told)
+    standings = [here] + [now for _, now in told]
+    return return_error(standings, again, ever_barred(manners, standings))

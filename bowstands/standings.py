@@ -37,13 +37,18 @@ def places_of(manners, hand):
 
 def standing_error(manners, value):
     """Return None if value is a standing by manners, otherwise the first thing that is wrong with it."""
+    return error_among(manners, value, [places_of(manners, hand) for hand in range(len(manners[0]))])
+
+
+def error_among(manners, value, lots):
+    """Return what standing_error does, if lots are the lists of the places that there are for the hands."""
     if not _is_form(value):
         return "form"
     places, tokens = value
-    if len(places) != len(manners[0]):
+    if len(places) != len(lots):
         return "places"
     for hand, place in enumerate(places):
-        if not _is_place(manners, hand, place):
+        if not _is_place(place, lots[hand]):
             return ("place", hand)
     pairs = even_pairs(manners)
     if len(tokens) != len(pairs):
@@ -60,11 +65,11 @@ def _is_form(value):
     return isinstance(value[0], tuple) and isinstance(value[1], tuple)
 
 
-def _is_place(manners, hand, value):
+def _is_place(value, lot):
     # False is no spot, though Python holds it equal to 0.
     if not isinstance(value, tuple) or len(value) != 2 or not is_whole(value[1]):
         return False
-    return value in places_of(manners, hand)
+    return value in lot
 
 
 def _is_token(value, pair):

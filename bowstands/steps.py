@@ -4,6 +4,9 @@ from bowstands.errors import Unfit
 from bowstands.manners import evens
 from bowstands.standings import REST, flag, holder
 
+# The words of the places at which the next step hangs on another flag.
+LOOKING = ("look", "low")
+
 # The steps that the word of the place alone tells.
 PLAIN_STEPS = {"rest": "begin", "wish": "raise", "hand": "hand", "yield": "lower", "in": "leave"}
 
@@ -11,40 +14,39 @@ PLAIN_STEPS = {"rest": "begin", "wish": "raise", "hand": "hand", "yield": "lower
 def next_step(manners, standing, hand):
     """Return the word of the next step of hand, None if it is barred."""
     word, spot = standing[0][hand]
-    if word == "look":
-        return _look_step(manners, standing, hand)
-    if word == "low":
-        return "see" if _is_down(manners, standing, hand) else None
+    if word in LOOKING:
+        seen = flag(manners, standing, looked_at(manners, standing, hand))
+        return seeing_step(manners, standing, hand, seen)
     if word == "anew":
-        return "enter" if _is_last(manners, spot) else "raise"
+        return "enter" if is_last(manners, spot) else "raise"
     return PLAIN_STEPS[word]
 
 
-def _look_step(manners, standing, hand):
-    if _goes_on(manners, standing, hand):
-        return "enter" if _is_last(manners, standing[0][hand][1]) else "look"
-    treats = manners[0][hand][_looked_at(manners, standing, hand)]
+def looked_at(manners, standing, hand):
+    """Return the other hand at the spot of the place of hand, in its order."""
+    return manners[1][hand][standing[0][hand][1]]
+
+
+def seeing_step(manners, standing, hand, seen):
+    """Return the word of the next step of hand, which looks at a flag, if it sees it so; None if it is barred."""
+    word, spot = standing[0][hand]
+    if word == "low":
+        return "see" if seen == "down" else None
+    if _goes_on(manners, standing, hand, seen):
+        return "enter" if is_last(manners, spot) else "look"
+    treats = manners[0][hand][looked_at(manners, standing, hand)]
     return "yield" if treats in ("bow", "slip") else None
 
 
-def _goes_on(manners, standing, hand):
-    other = _looked_at(manners, standing, hand)
+def _goes_on(manners, standing, hand, seen):
+    other = looked_at(manners, standing, hand)
     treats = manners[0][hand][other]
-    seen = flag(manners, standing, other)
     if treats == "pass" or seen == "down":
         return True
     return treats == "even" and seen == "up" and holder(standing, hand, other) == hand
 
 
-def _looked_at(manners, standing, hand):
-    return manners[1][hand][standing[0][hand][1]]
-
-
-def _is_down(manners, standing, hand):
-    return flag(manners, standing, _looked_at(manners, standing, hand)) == "down"
-
-
-def _is_last(manners, spot):
+def is_last(manners, spot):
     """Return whether nobody is left to look at behind this spot of an order."""
     return spot == len(manners[0]) - 2
 
@@ -112,7 +114,7 @@ def _place_handed(manners, hand, spot):
 
 
 def _seen(manners, standing, hand):
-    treats = manners[0][hand][_looked_at(manners, standing, hand)]
+    treats = manners[0][hand][looked_at(manners, standing, hand)]
     if treats == "slip":
         return ("anew", standing[0][hand][1])
     return _begun(manners, hand)

@@ -84,10 +84,10 @@ def _nobody_is_idle(graph, part, is_kept):
     return True
 
 
-def can_stall(graph):
-    """Whether there is a stall."""
+def can_stall(graph, out=("begin", "enter", "leave")):
+    """Whether there is a stall; out are the words that may not stand in its round."""
     def is_kept(edge):
-        return edge[1] not in ("begin", "enter", "leave")
+        return edge[1] not in out
 
     for part in parts(graph, is_kept):
         if within(part[0]) or all(place == model.REST for place in part[0][0]):
@@ -97,10 +97,10 @@ def can_stall(graph):
     return False
 
 
-def can_keep_out(graph, hand):
-    """Whether there is a keeping of hand."""
+def can_keep_out(graph, hand, out=("enter", "leave")):
+    """Whether there is a keeping of hand; out are the words that it may not have in its round."""
     def is_kept(edge):
-        return edge[0] != hand or edge[1] not in ("enter", "leave")
+        return edge[0] != hand or edge[1] not in out
 
     for part in parts(graph, is_kept):
         if part[0][0][hand] not in (model.REST, model.IN) and _nobody_is_idle(graph, part, is_kept):

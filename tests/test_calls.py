@@ -16,6 +16,9 @@ LATE = (MIXED[0], ((2, 1), (0, 2), (1, 0)), ())
 ABOUT = (0, 1, 2)
 BEGUN = ((("wish", 0), ("hand", 0), ("look", 1)), RESTING[1])
 EVEN = known("level", 4)[0]
+TURNING = ((("rise", 0), ("look", 0), ("empty", 0)), RESTING[1])
+SLOW = ((0, "raised"), (1, "yield"), (2, "left"))
+BROKEN = ((0, "go"), (1, "drop"), (1, "go"))
 
 # Module, function, the names of its arguments, some arguments.
 CALLS = (
@@ -77,6 +80,27 @@ CALLS = (
     ("looks", "passed_by_all", ("manners", "hand"), (MIXED, 2)),
     ("roomlogs", "log_text", ("log",), ((("go", 1), ("rule", TWO)),)),
     ("roomlogs", "read_log", ("value",), ("go 1\nrule 1 bow; 0 bow\n",)),
+    ("flickers", "views", ("manners", "standing", "hand"), (MIXED, TURNING, 0)),
+    ("flickers", "slow_error", ("manners", "value"), (MIXED, TURNING)),
+    ("flickers", "next_words", ("manners", "standing", "hand"), (MIXED, TURNING, 1)),
+    ("flickers", "made", ("manners", "standing", "hand", "word"), (MIXED, TURNING, 1, "yield")),
+    ("slowruns", "slow_behind", ("manners", "standing", "run"), (MIXED, TURNING, SLOW)),
+    ("slowruns", "slow_entries", ("manners", "standing", "run"), (MIXED, TURNING, SLOW)),
+    ("slowruns", "slow_meeting", ("manners", "standing", "run"), (MIXED, TURNING, SLOW)),
+    ("slowruns", "slow_passed", ("manners", "run", "hand"), (MIXED, ((0, "begin"), (0, "raise")), 0)),
+    ("slowruns", "slowed", ("manners", "run"), (MIXED, (0, 0, 0, 1))),
+    ("slowstalls", "slow_stall", ("manners",), (LATE,)),
+    ("slowstalls", "slow_stall_error", ("manners", "value"), (LATE, (((0, "begin"),), ()))),
+    ("slowstalls", "slow_keeping", ("manners", "hand"), (MIXED, 1)),
+    ("slowstalls", "slow_keeping_error", ("manners", "hand", "value"), (MIXED, 0, (((0, "begin"),), ()))),
+    ("slowhomes", "slow_bound", ("manners",), (MIXED,)),
+    ("slowhomes", "slow_home", ("manners", "standing", "row", "sights"), (MIXED, TURNING, (2, 0, 1), (1, 0))),
+    ("drops", "dropped", ("manners", "standing", "hand"), (MIXED, BEGUN, 2)),
+    ("drops", "drop_behind", ("manners", "standing", "run"), (MIXED, BEGUN, BROKEN)),
+    ("drops", "drop_meeting", ("manners", "standing", "run"), (MIXED, BEGUN, BROKEN)),
+    ("dropstalls", "drop_stall_error", ("manners", "value"), (LATE, (((0, "go"),), ()))),
+    ("dropstalls", "drop_keeping", ("manners", "hand"), (LATE, 0)),
+    ("dropstalls", "drop_keeping_error", ("manners", "hand", "value"), (LATE, 0, (((0, "go"),), ()))),
 )
 
 # Module, class, the names of its arguments, some arguments; its methods likewise.
