@@ -74,7 +74,7 @@ def longest_by_all(manners, standing):
     graph = all_behind(manners, standing, ("begin",))
     lengths = {}
     # Whatever a part leads to stands in the parts ahead of it.
-    for part in parts({here: _next_ones(graph[here]) for here in graph}):
+    for part in parts({one: _next_ones(graph[one]) for one in graph}):
         if len(part) > 1:
             return None
         here = part[0]
